@@ -1,0 +1,1 @@
+"""Instances: templates that compute. A compiler's part; each module has its own functions."""

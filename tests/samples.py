@@ -1,0 +1,168 @@
+"""What several tests use: signatures, odd values, and slow plain ways to work out the same things."""
+
+import itertools
+
+KINDS = (("count", "closed"), ("truth", "closed"), ("type", "open"), ("row", "closed"))
+MAKERS = (
+    ("z", (), "count"),
+    ("s", ("count",), "count"),
+    ("yes", (), "truth"),
+    ("no", (), "truth"),
+    ("int", (), "type"),
+    ("ptr", ("type",), "type"),
+    ("nil", (), "row"),
+    ("cons", ("type", "row"), "row"),
+)
+SIG = (KINDS, MAKERS)
+
+# Trees over an open kind, with makers of up to three arguments, and a kind without makers.
+TREES = (
+    (("tree", "closed"), ("leaf", "open"), ("bare", "open")),
+    (
+        ("at", ("leaf",), "tree"),
+        ("two", ("tree", "tree"), "tree"),
+        ("three", ("tree", "leaf", "tree"), "tree"),
+        ("a", (), "leaf"),
+        ("b", (), "leaf"),
+        ("wrap", ("tree",), "leaf"),
+        ("box", ("bare",), "leaf"),
+    ),
+)
+
+X, Y, Z = ("?", "x"), ("?", "y"), ("?", "z")
+INT, NIL, ZERO, YES, NO = ("int",), ("nil",), ("z",), ("yes",), ("no",)
+
+
+class Hostile:
+    """A value that says that it is equal to anything, and has no hash and no truth."""
+
+    __hash__ = None
+
+    def __eq__(self, other):
+        return True
+
+    def __ne__(self, other):
+        return False
+
+    def __bool__(self):
+        raise AssertionError("asked for its truth")
+
+    def __len__(self):
+        raise AssertionError("asked for its length")
+
+    def __getitem__(self, at):
+        raise AssertionError("asked for an item")
+
+    def __iter__(self):
+        raise AssertionError("iterated over")
+
+
+def nested(depth, inner=()):
+    """A value nested so deep."""
+    for _ in range(depth):
+        inner = (inner,)
+    return inner
+
+
+def odd_values():
+    """Values of all sorts, none of which is right where anything is asked for."""
+    return [
+        None, True, False, 0, 1, -1, 10 ** 30, "", "x", "count", "#", "?", b"count", b"", (), [], {}, set(),
+        (None,), (True, False), [1, 2], {"count": "closed"}, ((), ()), ([], []), ("", ""), ("count",) * 5,
+        frozenset(), object(), Hostile(), (Hostile(),), (Hostile(), Hostile()), (Hostile(),) * 3,
+        len, int, nested(59), nested(59, "count"), ("a" * 500,), "\ud800", ("\u00e9",),
+        (b"count",), (0,), ("".join,), range(2), ("#",), ("?",), ("#", "type"), ("?", "x", "y"),
+    ]
+
+
+def makers_of(signature, kind):
+    return [(name, needs) for name, needs, made in signature[1] if made == kind]
+
+
+def terms_up_to(signature, kind, depth, variables=(), numbers=()):
+    """All terms of the kind up to this depth, with these variables, pairs of a name and a kind, and strangers."""
+    found = [("?", name) for name, of_kind in variables if of_kind == kind]
+    if (kind, "open") in signature[0]:
+        found += [("#", kind, number) for number in numbers]
+    if depth > 0:
+        for name, needs in makers_of(signature, kind):
+            parts = [terms_up_to(signature, need, depth - 1, variables, numbers) for need in needs]
+            found += [(name, *row) for row in itertools.product(*parts)]
+    return found
+
+
+def rows_up_to(signature, kinds, depth, variables=(), numbers=()):
+    """All tuples of such terms for the kinds."""
+    return list(itertools.product(*[terms_up_to(signature, kind, depth, variables, numbers) for kind in kinds]))
+
+
+def size_of(term):
+    """The size of a closed term."""
+    return 1 if term[0] == "#" else 1 + sum(size_of(part) for part in term[1:])
+
+
+def plain_put(term, found):
+    """The term with what is found put for its variables."""
+    if term[0] == "?":
+        return found.get(term[1], term)
+    if term[0] == "#":
+        return term
+    return (term[0], *(plain_put(part, found) for part in term[1:]))
+
+
+def plain_fit(patterns, terms):
+    """Whether the terms fit the patterns, worked out part by part."""
+    found = {}
+
+    def fit(pattern, term):
+        if pattern[0] == "?":
+            return found.setdefault(pattern[1], term) == term
+        if pattern[0] != term[0] or len(pattern) != len(term):
+            return False
+        return all(fit(part, other) for part, other in zip(pattern[1:], term[1:]))
+
+    return all(fit(pattern, term) for pattern, term in zip(patterns, terms))
+
+
+def plain_variables(patterns):
+    """The names of variables as they stand, from the left."""
+    names = []
+    for term in patterns:
+        names += [term[1]] if term[0] == "?" else plain_variables(term[1:]) if term[0] != "#" else []
+    return list(dict.fromkeys(names))
+
+
+def plain_named(patterns):
+    found = {name: ("?", f"v{at + 1}") for at, name in enumerate(plain_variables(patterns))}
+    return tuple(plain_put(term, found) for term in patterns)
+
+
+def plain_meet(one, other):
+    """The meet by Robinson's way: one variable after the other is put away."""
+    apart = {name: ("?", "other " + name) for name in plain_variables(other)}
+    one, other = list(one), [plain_put(term, apart) for term in other]
+    waiting = list(zip(one, other))
+    while waiting:
+        left, right = waiting.pop()
+        if left == right:
+            continue
+        if right[0] == "?":
+            left, right = right, left
+        if left[0] == "?":
+            if left[1] in plain_variables([right]):
+                return None
+            put = {left[1]: right}
+            waiting = [(plain_put(a, put), plain_put(b, put)) for a, b in waiting]
+            one = [plain_put(term, put) for term in one]
+        elif left[0] != right[0]:
+            return None
+        else:
+            waiting += zip(left[1:], right[1:])
+    return plain_named(one)
+
+
+def chain(depth, inner):
+    """s(s(..(inner)))."""
+    for _ in range(depth):
+        inner = ("s", inner)
+    return inner
