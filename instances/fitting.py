@@ -32,14 +32,41 @@ def variables_of(patterns):
     return list(found)
 
 
+def variable_kinds(makers, kinds, patterns):
+    """For each variable's name its kind, in the order in which they first stand; `makers` as makers_by_name tells."""
+    found = {}
+    waiting = list(reversed(list(zip(kinds, patterns))))
+    while waiting:
+        kind, term = waiting.pop()
+        if term[0] == "?":
+            found[term[1]] = kind
+        else:
+            waiting.extend(list(reversed(list(zip(makers[term[0]][0], term[1:])))))
+    return found
+
+
+def text_of(patterns):
+    """A text that no other patterns for the same kinds have: each maker has its number of arguments."""
+    words = []
+    waiting = list(reversed(patterns))
+    while waiting:
+        term = waiting.pop()
+        if term[0] == "?":
+            words.append("?" + term[1])
+        else:
+            words.append(term[0])
+            waiting.extend(list(reversed(term[1:])))
+    return " ".join(words)
+
+
 def put_in(term, found):
-    """The pattern with each variable put for by what is found under its name."""
+    """The pattern with each variable put for by what is found under its name; others stay as they are."""
     made = []
     waiting = [(term, False)]
     while waiting:
         now, are_parts_made = waiting.pop()
         if now[0] == "?":
-            made.append(found[now[1]])
+            made.append(found.get(now[1], now))
         elif are_parts_made:
             ahead = len(made) - len(now) + 1
             parts = made[ahead:]

@@ -11,6 +11,17 @@ def meet_of(one, other):
     return places.terms_at(ones)
 
 
+def put_by_meet(names, goal, row):
+    """What the goal's meet with the row puts for each of these variables of the goal; None if there is no meet."""
+    places = Places()
+    ones = places.add_patterns((*goal, *[("?", name) for name in names]))
+    others = places.add_patterns(row)
+    if not places.make_alike(ones[:len(goal)], others):
+        return None
+    told = places.terms_at(ones)
+    return None if told is None else told[len(goal):]
+
+
 class Places:
     """Terms as numbered places, of which several may be made one.
 

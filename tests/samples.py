@@ -166,3 +166,113 @@ def chain(depth, inner):
     for _ in range(depth):
         inner = ("s", inner)
     return inner
+
+
+def plain_kinds(signature, kinds, patterns):
+    """For each variable's name its kind."""
+    needs = {name: needs for name, needs, made in signature[1]}
+    found = {}
+    for kind, term in zip(kinds, patterns):
+        if term[0] == "?":
+            found.setdefault(term[1], kind)
+        else:
+            found.update(plain_kinds(signature, needs[term[0]], term[1:]))
+    return found
+
+
+def plain_tree(signature, kinds, goal, rows, tree):
+    """Whether what looks like a tree of cases is one, worked out as [12] tells it."""
+    goal = plain_named(goal)
+    if tree[0] == "leaf":
+        return plain_fit(rows[tree[1]], goal)
+    _, name, parts = tree
+    kind = plain_kinds(signature, kinds, goal).get(name)
+    if (kind, "closed") not in signature[0]:
+        return False
+    makers = makers_of(signature, kind)
+    if len(makers) != len(parts):
+        return False
+    for (maker, needs), part in zip(makers, parts):
+        made = (maker, *[("?", f"new{at}") for at in range(len(needs))])
+        if not plain_tree(signature, kinds, [plain_put(term, {name: made}) for term in goal], rows, part):
+            return False
+    return True
+
+
+def tree_size(tree):
+    """How many leaves and splits the tree has."""
+    return 1 if tree[0] == "leaf" else 1 + sum(tree_size(part) for part in tree[2])
+
+
+def plain_choice(cases, args):
+    """What [16] tells of these arguments and cases, pairs of patterns and a body."""
+    fitting = [index for index, (patterns, body) in enumerate(cases) if plain_fit(patterns, args)]
+    for index in fitting:
+        if all(plain_fit(cases[other][0], cases[index][0]) for other in fitting):
+            return ("chosen", index)
+    least = [
+        index for index in fitting
+        if not any(other != index and plain_fit(cases[index][0], cases[other][0]) for other in fitting)
+    ]
+    return ("two", least[0], least[1]) if least else ("none",)
+
+
+def depth_of(term):
+    """How deep terms stand in one another in the closed term."""
+    return 1 if term[0] == "#" else 1 + max([depth_of(part) for part in term[1:]], default=0)
+
+
+class Told(Exception):
+    """The run comes to an end without a value."""
+
+
+def plain_run(table, use):
+    """What the run of the use tells, and its instances, worked out by plain calls as [20] tells it."""
+    cases = {name: of_name for name, params, result, of_name in table[1]}
+    values, running, found = {}, [], []
+
+    def is_too_great(term):
+        return size_of(term) > 400 or depth_of(term) > 40
+
+    def work_out(body, put):
+        if body[0] == "?":
+            return put[body[1]]
+        if body[0] != "!":
+            return (body[0], *[work_out(part, put) for part in body[1:]])
+        args = tuple(work_out(part, put) for part in body[2:])
+        if any(is_too_great(term) for term in args):
+            raise Told(("great",))
+        return come_to((body[1], args))
+
+    def come_to(now):
+        if now in values:
+            return values[now]
+        if now in running:
+            raise Told(("round", now))
+        if len(values) + len(running) == 150:
+            raise Told(("great",))
+        told = plain_choice(cases[now[0]], now[1])
+        if told[0] != "chosen":
+            raise Told((told[0], now))
+        running.append(now)
+        patterns, body = cases[now[0]][told[1]]
+        value = work_out(body, put_apart(patterns, now[1]))
+        if is_too_great(value):
+            raise Told(("great",))
+        running.remove(now)
+        values[now] = value
+        found.append((now, told[1], value))
+        return value
+
+    try:
+        return ("value", come_to(use)), tuple(found)
+    except Told as told:
+        return told.args[0], None
+
+
+def put_apart(patterns, terms):
+    """What is put for the variables of patterns that the terms fit."""
+    found = {}
+    for pattern, term in zip(patterns, terms):
+        found.update({pattern[1]: term} if pattern[0] == "?" else put_apart(pattern[1:], term[1:]))
+    return found

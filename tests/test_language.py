@@ -52,6 +52,12 @@ def bound_names(tree):
     return found
 
 
+def names_defined(tree):
+    """The names that a file defines, those of imports left out."""
+    found = [node.name for node in tree.body if isinstance(node, (ast.FunctionDef, ast.ClassDef))]
+    return found + [node.targets[0].id for node in tree.body if isinstance(node, ast.Assign)]
+
+
 class LanguageTest(unittest.TestCase):
     def test_files(self):
         self.assertIn("__init__.py", [path.name for path in FILES])
@@ -71,10 +77,7 @@ class LanguageTest(unittest.TestCase):
                 self.assertLessEqual(node.end_lineno - node.lineno + 1, 40, (name, node.name))
 
     def test_imports_name_the_file_that_defines_the_name_and_never_come_round(self):
-        defined = {
-            path.stem: [node.name for node in tree_of(path).body if isinstance(node, (ast.FunctionDef, ast.ClassDef))]
-            for path in FILES
-        }
+        defined = {path.stem: names_defined(tree_of(path)) for path in FILES}
         used = {path.stem: [] for path in FILES}
         self.assertEqual(nodes(ast.Import), [])
         for name, node in nodes(ast.ImportFrom):
@@ -131,6 +134,31 @@ class LanguageTest(unittest.TestCase):
         for name, node in nodes(ast.Attribute):
             self.assertIn(node.attr, METHODS | own | kept, name)
             self.assertNotIn(node.attr, BARRED, name)
+        for attribute in kept:
+            self.assertNotIn(attribute, METHODS - {"count", "index", "copy"}, "an attribute has the name of a method")
+
+    def test_classes(self):
+        for name, node in nodes(ast.ClassDef):
+            methods = [part.name for part in node.body if isinstance(part, ast.FunctionDef)]
+            self.assertEqual(len(methods), len(set(methods)), (name, node.name))
+            stored = {part.attr for part in ast.walk(node) if isinstance(part, ast.Attribute) and isinstance(part.ctx, ast.Store)}
+            self.assertFalse(stored & set(methods), (name, node.name))
+
+    def test_what_is_iterated_at_once(self):
+        self.assertEqual(nodes((ast.GeneratorExp, ast.SetComp)), [])
+        for name, tree in [(path.name, tree_of(path)) for path in FILES]:
+            parents = {child: node for node in ast.walk(tree) for child in ast.iter_child_nodes(node)}
+            for node in ast.walk(tree):
+                is_view = isinstance(node, ast.Call) and (
+                    isinstance(node.func, ast.Name) and node.func.id in ("zip", "enumerate", "reversed", "range")
+                    or isinstance(node.func, ast.Attribute) and node.func.attr in ("items", "keys", "values")
+                )
+                if is_view:
+                    parent = parents[node]
+                    is_call = isinstance(parent, ast.Call) and isinstance(parent.func, ast.Name) and parent.func.id in (
+                        "list", "tuple", "dict", "sorted", "sum", "any", "all", "enumerate", "zip", "min", "max"
+                    )
+                    self.assertTrue(is_call or isinstance(parent, (ast.For, ast.comprehension)), (name, node.lineno))
 
 
 if __name__ == "__main__":
