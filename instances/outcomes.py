@@ -61,9 +61,10 @@ class Running:
 
     def taken(self, many):
         """The last values that wait, so many, which are taken away."""
-        ahead = len(self.made) - many
-        numbers = self.made[ahead:]
-        del self.made[ahead:]
+        made = self.made
+        ahead = len(made) - many
+        numbers = made[ahead:]
+        del made[ahead:]
         return numbers
 
     def work_out(self, body, found):
