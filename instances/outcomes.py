@@ -11,14 +11,20 @@ MOST_USES = 150
 
 def outcome(cases, use):
     """What the run of the use tells, and its instances; `cases` is as cases_by_name tells, or has some of these."""
+    running = run_through(cases, use)
+    if running.answer is not None:
+        return running.answer, ()
+    return ("value", running.term(running.made[0])), tuple(running.found)
+
+
+def run_through(cases, use):
+    """The run of the use, come to its end."""
     running = Running(cases)
     numbers = [running.store.number_of(term) for term in use[1]]
     running.begin(use[0], numbers)
     while running.tasks and running.answer is None:
         running.go_on()
-    if running.answer is not None:
-        return running.answer, ()
-    return ("value", running.term(running.made[0])), tuple(running.found)
+    return running
 
 
 class Running:
@@ -32,6 +38,9 @@ class Running:
         # For each use that has been run the number of its value; None as long as it is being run.
         self.results = {}
         self.found = []
+        # The keys of the uses that are being run, and for each use's key those that its body comes to.
+        self.begun = []
+        self.used = {}
         # What is told, if there is no value.
         self.answer = None
 
@@ -83,6 +92,7 @@ class Running:
     def come_to(self, name, numbers):
         """Comes to an inner use."""
         key = (name, *numbers)
+        self.used[self.begun[-1]].append(key)
         if any([self.is_too_great(number) for number in numbers]):
             self.answer = ("great",)
         elif key not in self.results:
@@ -104,6 +114,8 @@ class Running:
             self.answer = (told[0], self.use_of(key))
             return
         self.results[key] = None
+        self.begun.append(key)
+        self.used[key] = []
         patterns, body = self.case_of(name, told[1])
         found = put_for(patterns, args)
         self.tasks.append(("end", key, told[1]))
@@ -116,6 +128,7 @@ class Running:
     def end(self, key, index):
         """Ends the run of a use, whose value waits."""
         number = self.made[-1]
+        self.begun.pop()
         if self.is_too_great(number):
             self.answer = ("great",)
         else:

@@ -61,6 +61,17 @@ def have_terms(kinds, makers):
     return all(list(filled.values()))
 
 
+def some_terms(signature):
+    """For each kind a closed term."""
+    found = {name: ("#", name, 1) for name in open_kinds(signature)}
+    # As above: each round finds a term of one more kind at least.
+    for _ in signature[0]:
+        for name, needs, kind in signature[1]:
+            if all([need in found for need in needs]):
+                found.setdefault(kind, (name, *[found[need] for need in needs]))
+    return found
+
+
 def check_signature(signature):
     """Raises InvalidSignature for none."""
     if not is_signature(signature):

@@ -76,6 +76,12 @@ def check_name(table, name):
         raise InvalidName(name)
 
 
+def check_case(table, name, case):
+    """Raises InvalidNumber for no index of a case of the definition."""
+    if not is_whole(case) or not 0 <= case < len(patterns_of(table, name)):
+        raise InvalidNumber(case)
+
+
 def check_use(table, use):
     """Raises InvalidUse for none of the table."""
     if not is_use(table, use):
@@ -139,19 +145,29 @@ def fault(table, name):
 
 def fault_of(table, name):
     """The same, for what is known to be a table and a name of it."""
-    params = params_of(table, name)
     rows = patterns_of(table, name)
-    goals = [(tuple([("?", f"v{at}") for at in range(len(params))]), rows)]
-    for later, other in enumerate(rows):
-        for one in rows[:later]:
-            both = meet_of(one, other)
-            if both is not None:
-                goals.append((both, [row for row in rows if fits(row, both)]))
+    goals = [(variables_for(table, name), rows)] + [(both, below) for one, other, both, below in meets_below(rows)]
     for goal, below in goals:
-        args = instance_beside(table[0], params, goal, below)
+        args = instance_beside(table[0], params_of(table, name), goal, below)
         if args is not None:
             return (name, args)
     return None
+
+
+def variables_for(table, name):
+    """Patterns for the definition's parameters that are variables, all unlike."""
+    return tuple([("?", f"v{at}") for at in range(len(params_of(table, name)))])
+
+
+def meets_below(rows):
+    """For each two of the rows that have a meet: their indexes, the meet, and the rows that are as special as both."""
+    found = []
+    for index, one in enumerate(rows):
+        for later in range(index + 1, len(rows)):
+            both = meet_of(one, rows[later])
+            if both is not None:
+                found.append((index, later, both, [row for row in rows if fits(row, both)]))
+    return found
 
 
 def bars(rows, patterns):
@@ -163,9 +179,8 @@ def chosen_use(table, name, case):
     """A use that chooses the case; None if it is dead."""
     check_table(table)
     check_name(table, name)
+    check_case(table, name, case)
     rows = patterns_of(table, name)
-    if not is_whole(case) or not 0 <= case < len(rows):
-        raise InvalidNumber(case)
     args = instance_beside(table[0], params_of(table, name), rows[case], bars(rows, rows[case]))
     return None if args is None else (name, args)
 

@@ -70,8 +70,88 @@ RUNS = '''
 [('s', ('s', ('s', ('s', ('z',))))), 9, ('round', ('ever', (('z',),)))]
 '''
 
+ENDINGS = r'''
+>>> from instances.endings import carried, groups, is_formed, is_round, loop, roads
+>>> even = ("even", ("count",), "truth", (((z,), ("yes",)), ((s,), ("!", "odd", x))))
+>>> odd = ("odd", ("count",), "truth", (((z,), ("no",)), ((s,), ("!", "even", x))))
+>>> full = (sig, (plus, times, even, odd))
+>>> [groups(full), carried(full, "plus"), carried(full, "even"), is_formed(full), loop(full), roads(full)]
+[(('plus',), ('times',), ('even', 'odd')), (1,), (), True, None, ((('open', ()), ('open', ())), (('open', ()), ('open', ())), (('open', ()), ('open', ())), (('open', ()), ('open', ())))]
+>>> swap = ("swap", ("count", "count"), "count", (((z, y), z), ((s, y), ("!", "swap", y, s)), ((z, z), z)))
+>>> one = ("s", z)
+>>> [is_round((sig, (swap,)), loop((sig, (swap,)))), is_round((sig, (swap,)), (("swap", (one, one)), ((1, 0),))), is_round((sig, (swap,)), (("swap", (one, z)), ((1, 0),)))]
+[True, True, False]
+>>> grow = ("grow", ("count",), "count", (((z,), z), ((s,), ("!", "grow", ("s", s)))))
+>>> loop((sig, (grow,)))
+raises Unformed(given='grow')
+'''
+
+UNITS = r'''
+>>> from instances.units import is_program, link, needed, unit_verdict, unlike
+>>> last = ("a", ((0, 1), (0, 1), (0, 1, 2)), (("same", (int_, int_)),))
+>>> less = ("b", ((0, 1), (0,), (0, 1)), (("same", (int_, int_)), ("plus", (z, two))))
+>>> program = (table, (last, less))
+>>> [is_program(program), unit_verdict(program, 0, ("same", (int_, int_))), unit_verdict(program, 1, ("same", (int_, int_))), link(program)]
+[True, ('chosen', 1), ('chosen', 0), ('clash', 0, 1, ('same', (('int',), ('int',))))]
+>>> [needed(table, "same", (x, y)), needed(table, "same", (x, x)), needed(table, "same", (int_, ptr)), needed(table, "both", (ptr, y))]
+[(0, 1), (1,), (0,), (1,)]
+>>> [unlike(program, 0, 1, "plus"), unit_verdict(program, 0, unlike(program, 0, 1, "same"))]
+[None, ('chosen', 1)]
+>>> link((table, (("c", ((0, 1), (), ()), (("plus", (z, z)),)), ("d", ((1,), (), ()), ()))))
+('linked', ((('plus', (('z',), ('z',))), 0, ('z',)),))
+'''
+
+TEXTS = r'''
+>>> from instances.texts import read_program, show_program
+>>> small = (((("count", "closed"),), (("z", (), "count"), ("s", ("count",), "count"))), (("half", ("count",), "count", (((z,), z), ((("s", z),), z), ((("s", ("s", x)),), ("s", ("!", "half", x))))),))
+>>> show_program((small, (("u", ((0, 2),), (("half", (z,)),)),))).split("\n")
+['kind count closed', 'make z () count', 'make s (count) count', 'template half (count) count', 'case (z) = z', 'case (s(z)) = z', 'case (s(s(?x))) = s(half(?x))', 'unit u', 'see half (0, 2)', 'root half(z)']
+>>> read_program(show_program((small, ()))) == (small, ())
+True
+>>> read_program("kind a closed\nmake c () b")
+raises InvalidText(index=(1, 4))
+>>> read_program("kind a closed\n\nmake c (a) a")
+raises InvalidText(index=(3, 0))
+>>> read_program("kind a closed\nmake c () a\ntemplate f (a) a\ncase (?x) = g(?x)")
+raises InvalidText(index=(4, 0))
+'''
+
+LABELS = r'''
+>>> from instances.labels import label_of, listing, read_label
+>>> [label_of(table, ("plus", (two, z))), label_of(table, ("same", (int_, ("#", "type", 12))))]
+['4plus1s1s1z1z', '4same3int04type12_']
+>>> [read_label(table, "4same3int04type12_"), listing(table, ("plus", (one, z)))]
+[('same', (('int',), ('#', 'type', 12))), '4plus1z1z = case 0 -> 1z\n4plus1s1z1z = case 1 -> 1s1z']
+>>> read_label(table, "4plus1z1y")
+raises BadLabel(spot=8)
+'''
+
+CERTIFICATES = r'''
+>>> from instances.certificates import certify_case, certify_choice, certify_cover, certify_ending, certify_run, certify_units
+>>> from instances.checker import accepts
+>>> [certify_choice(table, name)[0][0] for name in ("plus", "same", "both")]
+['one choice', 'one choice', 'no choice']
+>>> [accepts(("one choice", table, "same"), (("leaf", 0), ((0, 1, ("leaf", 0)),))), accepts(("one choice", table, "both"), (("leaf", 0), ())), accepts(("no choice", table, "both"), ("both", (("ptr", int_), ("ptr", int_))))]
+[True, False, True]
+>>> [certify_ending(full)[0][0], certify_ending((sig, (swap,)))[0][0], certify_case(table, "same", 0)[0][0], certify_units(program, 0, 1, "same")[0][0], certify_run(table, ("plus", (z, z)))[0][3]]
+['ends', 'goes round', 'chosen', 'unlike', ('z',)]
+>>> [accepts(("value", table, ("plus", (z, z)), z), ((("plus", (z, z)), 0, z),)), accepts(("covered", sig, ("count",), (x,), ((z,), (s,))), ("split", "v1", (("leaf", 0), ("leaf", 1))))]
+[True, True]
+'''
+
+CONSOLE = r'''
+>>> from instances.console import fresh_console, said, told_all
+>>> told_all(fresh_console(), ("choose f(c)", "kind a closed", "show", "make c () a", "make d(a) a", "template f(a) a", "case (c) = c", "case (c) = c", "choose f(d(c))", "case (d(?x)) = f(?x)", "fault f", "run f(d(d(c)))", "count f(d(d(c)))", "ending", "label f(c)", "rows"))[1]
+('not whole', 'taken', 'not whole at 1 0', 'taken', 'taken', 'taken', 'taken', 'not taken at 4', 'none', 'taken', 'sound', 'value c', '3', 'ends', '1f1c', '6')
+>>> told_all(fresh_console(), ("make c () a", "kind a open", "make c () a", "template g(a, a) a", "case (?x, ?x) = ?x", "case (c, ?x) = c", "choose g(c, c)", "choose g(c, #a 3)", "choose g(#a 3, c)", "closing g", "back", "back", "rows"))[1]
+('not taken at 4', 'taken', 'taken', 'taken', 'taken', 'taken', 'two 0 1', 'case 1', 'none', '1', 'back', 'back', '3')
+>>> said(fresh_console(), 5)
+raises InvalidLines(index=None)
+'''
+
 # The sessions go on from module to module: names stay told.
-SESSION = SIGNATURES + PATTERNS + COVERS + TABLES + RUNS
+SESSION = SIGNATURES + PATTERNS + COVERS + TABLES + RUNS + ENDINGS + UNITS + TEXTS + LABELS
+SESSION += CERTIFICATES + CONSOLE
 
 
 def examples(session):
@@ -105,8 +185,8 @@ class ExamplesTest(unittest.TestCase):
 
     def test_all_examples_are_there(self):
         told = [told for statement, told in examples(SESSION) if told]
-        self.assertEqual(len(told), 17)
-        self.assertEqual(len([line for line in told if line.startswith("raises ")]), 1)
+        self.assertEqual(len(told), 39)
+        self.assertEqual(len([line for line in told if line.startswith("raises ")]), 7)
 
 
 if __name__ == "__main__":

@@ -96,11 +96,23 @@ class LanguageTest(unittest.TestCase):
         for path in FILES:
             tree = tree_of(path)
             self.assertIsNotNone(ast.get_docstring(tree), path.name)
+            functions = []
             for node in tree.body[1:]:
                 self.assertIsInstance(node, (ast.ImportFrom, ast.FunctionDef, ast.ClassDef, ast.Assign), path.name)
+                if isinstance(node, ast.FunctionDef):
+                    functions.append(node.name)
                 if isinstance(node, ast.Assign):
                     self.assertEqual(len(node.targets), 1)
-                    self.assertTrue(repr(ast.literal_eval(node.value)))
+                    self.check_plain(node.value, functions)
+
+    def check_plain(self, value, functions):
+        """A plain value, or a dict of such and of functions that are defined above it."""
+        if isinstance(value, ast.Dict) and all(isinstance(part, ast.Name) for part in value.values):
+            for key, part in zip(value.keys, value.values):
+                self.assertIsInstance(ast.literal_eval(key), str)
+                self.assertIn(part.id, functions)
+        else:
+            self.assertTrue(repr(ast.literal_eval(value)))
 
     def test_statements_and_expressions(self):
         for name, node in nodes(ast.stmt):
