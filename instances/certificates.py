@@ -14,7 +14,7 @@ from instances.units import check_two_units, meets_of_units, unlike_use
 
 
 def certify_cover(signature, kinds, goal, rows):
-    """"covered" or "not covered"."""
+    """Certifies "covered" or "not covered"."""
     check_covering(signature, kinds, goal, rows)
     words = (signature, kinds, goal, rows)
     tree = tree_for(signature, kinds, goal, rows)
@@ -24,7 +24,7 @@ def certify_cover(signature, kinds, goal, rows):
 
 
 def certify_choice(table, name):
-    """"one choice" or "no choice"."""
+    """Certifies "one choice" or "no choice"."""
     check_table(table)
     check_name(table, name)
     use = fault_of(table, name)
@@ -42,7 +42,7 @@ def trees_for(signature, kinds, meets):
 
 
 def certify_case(table, name, case):
-    """"dead" or "chosen"."""
+    """Certifies "dead" or "chosen"."""
     check_table(table)
     check_name(table, name)
     check_case(table, name, case)
@@ -56,7 +56,7 @@ def certify_case(table, name, case):
 
 
 def certify_run(table, use):
-    """"value"."""
+    """Certifies "value"."""
     check_table(table)
     check_use(table, use)
     answer, found = outcome(cases_by_name(table), use)
@@ -66,7 +66,7 @@ def certify_run(table, use):
 
 
 def certify_ending(table):
-    """"ends" or "goes round"."""
+    """Certifies "ends" or "goes round"."""
     ways = checked_ways(table)
     trees = road_trees(ways)
     if trees is not None:
@@ -75,7 +75,7 @@ def certify_ending(table):
 
 
 def certify_units(program, one, other, name):
-    """"alike" or "unlike"."""
+    """Certifies "alike" or "unlike"."""
     check_two_units(program, one, other, name)
     use = unlike_use(program, one, other, name)
     if use is not None:

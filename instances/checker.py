@@ -8,12 +8,13 @@ from instances.labels import written_use
 from instances.outcomes import run_through
 from instances.patterns import check_terms, fits, is_closed_term
 from instances.roads import are_road_trees
+from instances.stores import Store
 from instances.tables import (
     bars, cases_by_name, check_case, check_name, check_table, check_use, choice, headers_of, is_use, meets_below,
     params_of, patterns_of, variables_for,
 )
 from instances.trees import is_tree
-from instances.units import cases_seen, check_needed, check_two_units, key_of, meets_of_units, needed_cases
+from instances.units import cases_seen, check_needed, check_two_units, meets_of_units, needed_cases
 
 
 def accepts(claim, paper):
@@ -112,7 +113,7 @@ def shows_value(claim, paper):
     word, table, use, term = claim
     check_table(table)
     check_use(table, use)
-    running = run_through(cases_by_name(table), use)
+    running = run_through(cases_by_name(table), use, Store())
     if running.answer is not None or not is_closed_term(table[0], headers_of(table[1])[use[0]][1], term):
         return False
     if running.store.number_of(term) != running.made[0]:
@@ -122,14 +123,14 @@ def shows_value(claim, paper):
 
 def are_instances(table, running, value):
     """Whether it is the instances of the run, each once and behind those that its body uses."""
-    store = running.store
-    known = {key_of(store, use): (use, index, term) for use, index, term in running.found}
-    if not is_tuple(value, len(known), len(known)) or not all([is_instance_told(table, told) for told in value]):
+    many = len(running.chosen)
+    if not is_tuple(value, many, many) or not all([is_instance_told(table, told) for told in value]):
         return False
     stood = {}
     for told in value:
-        key = key_of(store, told[0])
-        if key in stood or key not in known or told != known[key]:
+        name, args = told[0]
+        key = (name, *[running.store.number_of(term) for term in args])
+        if key in stood or key not in running.chosen or told != running.instance(key):
             return False
         if not all([other in stood for other in running.used[key]]):
             return False

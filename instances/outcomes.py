@@ -11,33 +11,35 @@ MOST_USES = 150
 
 def outcome(cases, use):
     """What the run of the use tells, and its instances; `cases` is as cases_by_name tells, or has some of these."""
-    running = run_through(cases, use)
+    running = run_through(cases, use, Store())
     if running.answer is not None:
         return running.answer, ()
-    return ("value", running.term(running.made[0])), tuple(running.found)
+    return ("value", running.term(running.made[0])), tuple([running.instance(key) for key in running.chosen])
 
 
-def run_through(cases, use):
+def run_through(cases, use, store):
     """The run of the use, come to its end."""
-    running = Running(cases)
-    numbers = [running.store.number_of(term) for term in use[1]]
-    running.begin(use[0], numbers)
+    running = Running(cases, store)
+    running.begin(use[0], [store.number_of(term) for term in use[1]])
     while running.tasks and running.answer is None:
         running.go_on()
     return running
 
 
 class Running:
-    """A run as far as it has come: what is still to do, the last task first, and the values that wait."""
+    """A run as far as it has come: what is still to do, the last task first, and the values that wait.
 
-    def __init__(self, cases):
+    A use's key is its name and its arguments' numbers in the store."""
+
+    def __init__(self, cases, store):
         self.cases = cases
-        self.store = Store()
+        self.store = store
         self.tasks = []
         self.made = []
-        # For each use that has been run the number of its value; None as long as it is being run.
+        # For each use's key the number of its value; None as long as it is being run.
         self.results = {}
-        self.found = []
+        # For each use's key the index of its case, in the order in which the values were found.
+        self.chosen = {}
         # The keys of the uses that are being run, and for each use's key those that its body comes to.
         self.begun = []
         self.used = {}
@@ -49,8 +51,12 @@ class Running:
         return self.store.terms[number]
 
     def use_of(self, key):
-        """The use of a key, which is its name and its arguments' numbers."""
+        """The use of a key."""
         return (key[0], tuple([self.term(number) for number in key[1:]]))
+
+    def instance(self, key):
+        """The instance of a use that has been run."""
+        return (self.use_of(key), self.chosen[key], self.term(self.results[key]))
 
     def is_too_great(self, number):
         """Whether the term has too many parts, or they stand too deep in one another."""
@@ -133,4 +139,4 @@ class Running:
             self.answer = ("great",)
         else:
             self.results[key] = number
-            self.found.append((self.use_of(key), index, self.term(number)))
+            self.chosen[key] = index

@@ -59,6 +59,7 @@ def rows_of_program(program):
         rows.append(f"unit {name}")
         for definition, numbers in zip(definitions, seen):
             if numbers:
-                rows.append(f"see {definition[0]} {shown_list([str(number) for number in numbers])}")
+                words = [str(number) for number in numbers]
+                rows.append(f"see {definition[0]} {shown_list(words)}")
         rows.extend([f"root {shown_use(root)}" for root in roots])
     return rows

@@ -3,7 +3,7 @@
 from instances.conventions import are_unlike, is_name, is_tuple, is_whole
 from instances.errors import InvalidNumber, InvalidProgram, InvalidUse
 from instances.meets import meet_of
-from instances.outcomes import outcome
+from instances.outcomes import run_through
 from instances.patterns import check_patterns
 from instances.stores import Store
 from instances.tables import (
@@ -155,17 +155,12 @@ def instances_of_unit(program, unit, store):
     cases = cases_seen(program, unit)
     found = {}
     for root, use in enumerate(program[1][unit][2]):
-        answer, told = outcome(cases, use)
-        if answer[0] != "value":
-            return ("stops", unit, root, answer), found
-        for instance in told:
-            found.setdefault(key_of(store, instance[0]), instance)
+        running = run_through(cases, use, store)
+        if running.answer is not None:
+            return ("stops", unit, root, running.answer), found
+        for key in running.chosen:
+            found.setdefault(key, running.instance(key))
     return None, found
-
-
-def key_of(store, use):
-    """A flat key of the use, which may be hundreds deep."""
-    return (use[0], *[store.number_of(term) for term in use[1]])
 
 
 def first_clash(units):

@@ -5,6 +5,7 @@ from collections import Counter
 from instances.trees import tree_for
 from samples import (
     INT, NO, SIG, X, Y, YES, ZERO, plain_choice, plain_fit, plain_named, plain_put, plain_tree, plain_variables, put_apart,
+    unified,
 )
 
 S, PTR = ("s", X), ("ptr", X)
@@ -150,28 +151,6 @@ def some_round(table, terms):
                     if then not in seen:
                         waiting.append(then)
     return None
-
-
-def unified(pairs, told):
-    """What is told, with the most general things put for its variables that make each pair alike; None if none do."""
-    waiting, told = list(pairs), list(told)
-    while waiting:
-        left, right = waiting.pop()
-        if left == right:
-            continue
-        if right[0] == "?":
-            left, right = right, left
-        if left[0] == "?":
-            if left[1] in plain_variables([right]):
-                return None
-            put = {left[1]: right}
-            waiting = [(plain_put(a, put), plain_put(b, put)) for a, b in waiting]
-            told = [plain_put(term, put) for term in told]
-        elif left[0] != right[0]:
-            return None
-        else:
-            waiting += zip(left[1:], right[1:])
-    return told
 
 
 class PlainRoads:

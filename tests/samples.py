@@ -138,10 +138,17 @@ def plain_named(patterns):
 
 
 def plain_meet(one, other):
-    """The meet by Robinson's way: one variable after the other is put away."""
+    """The meet by Robinson's way."""
     apart = {name: ("?", "other " + name) for name in plain_variables(other)}
-    one, other = list(one), [plain_put(term, apart) for term in other]
-    waiting = list(zip(one, other))
+    told = unified(zip(one, [plain_put(term, apart) for term in other]), one)
+    return None if told is None else plain_named(told)
+
+
+def unified(pairs, told):
+    """What is told, with the most general things put for its variables that make each pair alike; None if none do.
+
+    One variable after the other is put away."""
+    waiting, told = list(pairs), list(told)
     while waiting:
         left, right = waiting.pop()
         if left == right:
@@ -153,12 +160,12 @@ def plain_meet(one, other):
                 return None
             put = {left[1]: right}
             waiting = [(plain_put(a, put), plain_put(b, put)) for a, b in waiting]
-            one = [plain_put(term, put) for term in one]
+            told = [plain_put(term, put) for term in told]
         elif left[0] != right[0]:
             return None
         else:
             waiting += zip(left[1:], right[1:])
-    return plain_named(one)
+    return told
 
 
 def chain(depth, inner):

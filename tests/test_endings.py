@@ -10,7 +10,7 @@ from programs import (
     BOTH, EVEN, EVER, FULL, GROW, ODD, ONE, PLUS, S, SAME, SWAP, TABLE, TIMES, TWO, Hands, are_plain_roads, parts_of,
     plain_groups, plain_is_round, plain_looked_at, some_round, table_of,
 )
-from samples import INT, NO, SIG, X, Y, YES, Z, ZERO, chain, odd_values, plain_named, terms_up_to
+from samples import INT, NO, X, Y, Z, ZERO, chain, odd_values, plain_named, terms_up_to
 
 W = ("?", "w")
 COUNTS = ("count", "count")

@@ -6,8 +6,8 @@ from instances.errors import BadLabel, NoValue
 from instances.labels import label_of, listing, read_label
 from instances.runs import instances
 from instances.tables import is_table
-from programs import BOTH, EVER, FULL, ONE, PLUS, SAME, TABLE, TIMES, TWO, table_of
-from samples import INT, SIG, X, Y, YES, ZERO, chain, odd_values, rows_up_to
+from programs import EVER, FULL, ONE, TABLE, TWO, table_of
+from samples import INT, X, ZERO, chain, odd_values, rows_up_to
 
 # Kinds of few terms, whose names begin with one another's; names of figures; one open kind.
 ODD_NAMES = (

@@ -156,6 +156,18 @@ class LanguageTest(unittest.TestCase):
             stored = {part.attr for part in ast.walk(node) if isinstance(part, ast.Attribute) and isinstance(part.ctx, ast.Store)}
             self.assertFalse(stored & set(methods), (name, node.name))
 
+    def test_errors_are_raised_on_the_spot_and_caught_by_name(self):
+        own = set(names_defined(tree_of(FOLDER / "errors.py")))
+        for name, node in nodes(ast.Raise):
+            self.assertIsInstance(node.exc, ast.Call, name)
+            self.assertIn(node.exc.func.id, own, name)
+        for name, node in nodes(ast.Try):
+            self.assertEqual(node.finalbody, [], name)
+            for handler in node.handlers:
+                self.assertIn(handler.type.id, own, name)
+        for name, node in nodes(ast.FunctionDef):
+            self.assertEqual([part for part in ast.walk(node) if isinstance(part, ast.FunctionDef)], [node], name)
+
     def test_what_is_iterated_at_once(self):
         self.assertEqual(nodes((ast.GeneratorExp, ast.SetComp)), [])
         for name, tree in [(path.name, tree_of(path)) for path in FILES]:

@@ -6,9 +6,9 @@ import unittest
 from instances.runs import instances, run
 from instances.tables import fault, is_table, verdict
 from instances.units import is_program, link, needed, unit_verdict, unlike
-from programs import BOTH, EVER, LAST, LESS, ONE, PLUS, PROGRAM, PTR, S, SAME, TABLE, TIMES, TWO, table_of
+from programs import EVER, LAST, LESS, ONE, PLUS, PROGRAM, PTR, S, SAME, TABLE, TIMES, TWO, table_of
 from samples import (
-    INT, NIL, NO, SIG, X, Y, YES, Z, ZERO, Hostile, chain, odd_values, plain_choice, plain_fit, plain_named, plain_run,
+    INT, NO, SIG, X, Y, ZERO, Hostile, chain, odd_values, plain_choice, plain_fit, plain_named, plain_run,
     rows_up_to,
 )
 
