@@ -8,6 +8,7 @@ from instances.errors import InvalidText
 from instances.tables import is_table
 from instances.texts import read_program, show_program
 from instances.units import is_program
+from plain_texts import PlainReader
 from programs import FULL, PROGRAM, SWAP, TABLE, table_of
 from samples import INT, SIG, X, Y, YES, ZERO, chain, odd_values
 
@@ -383,6 +384,82 @@ class RefusedTest(TextsTest):
         self.assertGreater(len(places), 10)
 
 
+class PlainReaderTest(unittest.TestCase):
+    """The reader beside a plain one."""
+
+    OTHERS = (
+        "(", ")", ",", "=", "#", "?", "a", "c", "d", "e", "f", "g", "i", "o", "x", "y", "k", "l", "0", "1", "2", "00", "@", "kind", "make",
+        "template", "case", "unit", "see", "root", "open", "closed", "u", "v", "z",
+    )
+
+    def same(self, text):
+        plain = PlainReader(text)
+        self.assertEqual(refusal(text), plain.answer, text)
+        if plain.answer is None:
+            self.assertEqual(read_program(text), plain.program())
+        return plain.answer
+
+    def changed(self, rng, rows):
+        """The rows with a word or a row changed."""
+        rows = list(rows)
+        at = rng.randrange(len(rows))
+        words = words_of(rows[at])
+        way = rng.randrange(8)
+        if way < 3 and words:
+            words[rng.randrange(len(words))] = rng.choice(self.OTHERS)
+        elif way == 3:
+            words.insert(rng.randrange(len(words) + 1), rng.choice(self.OTHERS))
+        elif way == 4 and words:
+            del words[rng.randrange(len(words))]
+        elif way == 5:
+            words = words[:rng.randrange(len(words) + 1)]
+        elif way == 6:
+            rows.insert(rng.randrange(len(rows)), rng.choice(rows))
+        else:
+            other = rng.randrange(len(rows))
+            rows[at], rows[other] = rows[other], rows[at]
+            return rows
+        rows[at] = " ".join(words)
+        return rows
+
+    def test_texts_with_a_word_or_a_row_changed(self):
+        rng = random.Random(31)
+        more = [
+            "template h (a, o) a", "case (?x, e(?y, c)) = d(k(?x, l(?y), e(?y, f(?x))))", "case (?x, ?y) = f(h(d(?x), ?y))",
+            "template k (a, o, o) a", "case (?x, ?y, ?z) = ?x", "template l (o) o", "case (?y) = ?y", "root h(d(d(c)), e(#o 12, c))",
+            "see h (0, 1)", "see k ()",
+        ]
+        start = BASE.split("\n") + more
+        self.assertIsNone(self.same("\n".join(start)))
+        refused = {}
+        for _ in range(3000):
+            rows = self.changed(rng, start)
+            if rng.random() < 0.3:
+                rows = self.changed(rng, rows)
+            answer = self.same("\n".join(rows))
+            word = "read" if answer is None else "whole" if answer[0] == len(rows) else answer[1]
+            refused[word] = refused.get(word, 0) + 1
+        self.assertGreater(len(refused), 20)
+        self.assertGreater(min(refused["read"], refused["whole"], refused[0], refused[3]), 10)
+
+    def test_rows_of_random_words(self):
+        rng = random.Random(32)
+        for word in ("kind", "make", "template", "case", "unit", "see", "root"):
+            for _ in range(40):
+                words = [word]
+                # Word by word, mostly such as may stand there.
+                while len(words) < 25:
+                    ahead = BASE + "\n" + " ".join(words)
+                    if self.same(ahead) in (None, (len(BASE.split("\n")) + 1, 0)) and rng.random() < 0.5:
+                        break
+                    picked = rng.sample(self.OTHERS, len(self.OTHERS))
+                    rights = [other for other in picked[:12] if self.same(ahead + " " + other) != (len(BASE.split("\n")), len(words))]
+                    words.append(rights[0] if rights and rng.random() < 0.95 else picked[0])
+                    if not rights:
+                        break
+                self.same(BASE + "\n" + " ".join(words))
+
+
 class ShownTest(unittest.TestCase):
     def test_the_documents(self):
         x, z = X, ZERO
@@ -444,7 +521,7 @@ class ShownTest(unittest.TestCase):
 
     def test_random_programs_read_back(self):
         rng = random.Random(33)
-        for _ in range(150):
+        for _ in range(40):
             definitions = []
             for at in range(rng.randint(0, 3)):
                 params = tuple(rng.choice(("count", "type", "row")) for _ in range(rng.randint(1, 4)))
