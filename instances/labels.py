@@ -112,7 +112,7 @@ class Reading:
         return part
 
     def begin_term(self, kind, begun):
-        """A term without arguments; or None, where a maker with arguments is begun."""
+        """A stranger; or None, where a maker is begun."""
         starts = list(self.heads[kind])
         if kind in self.strange:
             starts.append(self.strange[kind])
@@ -120,8 +120,6 @@ class Reading:
         if start not in self.heads[kind]:
             return ("#", kind, self.take_number())
         maker, needs = self.heads[kind][start]
-        if not needs:
-            return (maker,)
         begun.append((maker, needs, []))
         return None
 

@@ -260,6 +260,17 @@ class AcceptsTest(unittest.TestCase):
         self.yes(("no choice", table_of(("f", COUNT, "count", ())), "f"), ("f", (ZERO,)))
         self.no(("one choice", table_of(("f", COUNT, "count", ())), "f"), (("leaf", 0), ()))
 
+    def test_uses_of_the_very_definition(self):
+        rows = (((X, Y), NO), ((X, X), YES), ((ZERO, Y), NO))
+        table = table_of(("f", COUNTS, "truth", rows), ("g", COUNTS, "truth", rows))
+        program = (table, (("u", ((0, 1, 2),) * 2, ()), ("v", ((0,),) * 2, ())))
+        for claim, args in (
+            (("no choice", table, "f"), (ZERO, ZERO)), (("chosen", table, "f", 1), (ONE, ONE)), (("unlike", program, 0, 1, "f"), (ONE, ONE)),
+        ):
+            self.yes(claim, ("f", args))
+            self.no(claim, ("g", args))
+            self.no((*claim[:-1], 0) if claim[0] == "chosen" else (*claim[:-1], "g"), ("f", args))
+
     def test_values(self):
         use = ("times", (ONE, TWO))
         found = instances(FULL, use)
@@ -282,6 +293,10 @@ class AcceptsTest(unittest.TestCase):
         self.no(claim, ((("plus", (ZERO, ONE)), 0, ONE), *found))
         for other in (ZERO, ONE, chain(3, ZERO), YES, X, ("s", X), None, 2, "two"):
             self.no(("value", FULL, use, other), found)
+
+        # The last one stands behind all others, so nothing tells that it is lacking but their number.
+        self.no(claim, found[:-1] + found[:1])
+        self.no(claim, found[:1] + found[:-1])
 
     def used_by(self, told):
         """The uses that the body of an instance of times and plus comes to."""
@@ -314,7 +329,7 @@ class AcceptsTest(unittest.TestCase):
         self.yes(("ends", TURNS), ((*tree[:3], other, tree[4]),))
         for at, told in ((0, ("no",)), (0, ("open", ())), (0, ("closed", ("leaf", 0))), (1, ("no",)), (1, ("closed", ("leaf", 0))), (3, ("open", ())),
                          (3, ("no",)), (4, ("no",)), (4, ("closed", ("leaf", 0))), (0, ("open", ((0, below), (1, below)))), (0, ("open", ((1, below),))),
-                         (0, ("open", ((False, below),))), (0, ("open", (0, below))), (1, ("open", ((0, below),))), (1, ("open",)),
+                         (0, ("open", ((False, below),))), (0, ("open", (0, below))), (0, ("open", ((0, below, ()),))), (0, ("open", ((0,),))), (1, ("open", ((0, below),))), (1, ("open",)),
                          (3, ("closed",)), (4, ("open", (), ()))):
             self.no(("ends", TURNS), ((*tree[:at], told, *tree[at + 1:]),))
         for at, told in ((4, ("open", ())), (4, ("closed", ("leaf", 0))), (0, ("no",)), (0, ("open", ())), (0, ("open", ((0, below),))),

@@ -257,6 +257,8 @@ class ConsoleTest(unittest.TestCase):
         self.assertEqual(self.asked(console_of((TABLE, units)), "link"), "linked 3")
         units = (units[0], ("u2", ((1,), (0, 1), ()), (("same", (INT, INT)), ("plus", (ONE, ZERO)))))
         self.assertEqual(self.asked(console_of((TABLE, units)), "link"), "stops u2 1")
+        units = (units[0], ("u2", ((1,), (0, 1), ()), (("plus", (ONE, ZERO)),)))
+        self.assertEqual(self.asked(console_of((TABLE, units)), "link"), "stops u2 0")
         self.assertEqual(self.asked(console_of(PROGRAM), "link"), "clash a b same(int, int)")
 
     def test_great_runs(self):

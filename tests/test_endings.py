@@ -317,6 +317,39 @@ class RoundsTest(unittest.TestCase):
         table = table_of(PLUS, ("f", COUNTS, "count", (((ZERO, Y), ZERO), ((S, Y), body))))
         self.assertEqual(self.told(table)[1], ((1, 3),))
 
+    def test_places_within_makers_of_several_arguments(self):
+        body = ("b", use("f", X), ("b", ("b", use("f", S), X), use("f", X)))
+        wood = ((("t", "closed"),), (("z", (), "t"), ("s", ("t",), "t"), ("b", ("t", "t"), "t")))
+        rows = (((ZERO,), ZERO), ((S,), body), ((("b", X, Y),), ZERO))
+        table = table_of(("f", ("t",), "t", rows), signature=wood)
+        self.assertEqual(self.told(table)[1], ((1, 1),))
+        for place in range(4):
+            self.assertIs(is_round(table, (("f", (ONE,)), ((1, place),))), place == 1)
+
+    def test_level_uses_hand_on_all_looked_at_parameters(self):
+        # Not formed: from one looked-at parameter to two and back.
+        less = ("less", ("count",), "count", (((ZERO,), ZERO), ((S,), use("more", S, S))))
+        more = ("more", COUNTS, "count", (((ZERO, ZERO), ZERO), ((S, Y), use("less", S)), ((S, ("s", Y)), use("more", ("s", Y), S))))
+        table = table_of(less, more)
+        self.assertFalse(is_formed(table))
+        for value, is_right in (
+            ((("less", (ONE,)), ((1, 0), (1, 0))), False), ((("more", (ONE, ZERO)), ((1, 0), (1, 0))), False),
+            ((("more", (ONE, ZERO)), ((1, 0),)), False), ((("less", (ONE,)), ((1, 0),)), False), ((("more", (ONE, ONE)), ((2, 0),)), True),
+            ((("more", (ONE, TWO)), ((2, 0), (2, 0))), True),
+        ):
+            self.assertIs(is_round(table, value), is_right, value)
+            self.assertIs(plain_is_round(table, *value), is_right, value)
+
+    def test_carried_arguments_of_any_kind(self):
+        # A closed term of p needs one of q, which needs one of r; none of them comes first.
+        kinds = (("p", "closed"), ("q", "closed"), ("r", "closed"), ("o", "open"))
+        makers = (("m", ("q", "q"), "p"), ("mm", ("p",), "p"), ("n", ("r",), "q"), ("k", ("o", "r"), "r"), ("l", (), "r"))
+        rows = (((X, Y, Z, W), use("f", X, Y, Z, W)),)
+        (name, args), steps = self.told(table_of(("f", ("p", "q", "r", "o"), "p", rows), signature=(kinds, makers)))
+        self.assertEqual((name, steps), ("f", ((0, 0),)))
+        table = table_of(("f", ("p",), "p", (((X,), use("f", X)),)), signature=(kinds[:3], (*makers[:3], makers[4])))
+        self.assertEqual(self.told(table)[0][0], "f")
+
     def test_inner_uses_of_other_groups_are_no_steps(self):
         table = table_of(EVER, ("f", ("count",), "count", (((ZERO,), ZERO), ((S,), use("ever", S)))))
         self.assertEqual(self.told(table)[0][0], "ever")
