@@ -318,12 +318,12 @@ class RoundsTest(unittest.TestCase):
         self.assertEqual(self.told(table)[1], ((1, 3),))
 
     def test_places_within_makers_of_several_arguments(self):
-        body = ("b", use("f", X), ("b", ("b", use("f", S), X), use("f", X)))
+        body = ("b", use("f", X), ("b", ("b", use("f", S), use("f", X)), use("f", X)))
         wood = ((("t", "closed"),), (("z", (), "t"), ("s", ("t",), "t"), ("b", ("t", "t"), "t")))
         rows = (((ZERO,), ZERO), ((S,), body), ((("b", X, Y),), ZERO))
         table = table_of(("f", ("t",), "t", rows), signature=wood)
         self.assertEqual(self.told(table)[1], ((1, 1),))
-        for place in range(4):
+        for place in range(5):
             self.assertIs(is_round(table, (("f", (ONE,)), ((1, place),))), place == 1)
 
     def test_level_uses_hand_on_all_looked_at_parameters(self):
